@@ -1,0 +1,79 @@
+// Package ferry: a kernel whose processes go to and fro: see DOC.md.
+package ferry
+
+import (
+	"ferry/api"
+	"ferry/blocks"
+	"ferry/cpu"
+)
+
+// Kernel is a machine with its processes.
+type Kernel struct {
+	core  blocks.Map[corePlace]
+	swap  blocks.Map[swapPlace]
+	procs []*process   // in the order of their pids
+	files [][]cpu.Word // by their names
+}
+
+// New starts a machine (P3).
+func New(c api.Config) (*Kernel, api.Errno) {
+	if !mayBe(c) {
+		return nil, api.ErrConfig
+	}
+	k := &Kernel{core: blocks.New[corePlace](c.Core), swap: blocks.New[swapPlace](c.Swap)}
+	for _, f := range c.Files {
+		k.files = append(k.files, toWords(f, len(f)))
+	}
+	first := newProcess(firstPid, 0, toWords(c.Program, blocksOf(len(c.Program))*api.Block))
+	first.swap, _ = k.swap.Take(first.blocks())
+	k.procs = append(k.procs, first)
+	return k, api.OK
+}
+
+// Pick lets a process go on (P4).
+func (k *Kernel) Pick(pid, steps int) ([]api.Event, api.Errno) {
+	p := k.find(pid)
+	if p == nil {
+		return nil, api.ErrPid
+	}
+	if steps < 1 || steps > api.MaxSteps {
+		return nil, api.ErrSteps
+	}
+	if p.state != api.Ready {
+		return nil, api.ErrState
+	}
+	return k.goOn(p, steps), api.OK
+}
+
+// Out takes a process out of the core (P9).
+func (k *Kernel) Out(pid int) api.Errno { return api.OK }
+
+// In brings a process into the core (P9).
+func (k *Kernel) In(pid int) api.Errno { return api.OK }
+
+// Look tells how a process stands (P10).
+func (k *Kernel) Look(pid int) (api.Proc, api.Errno) {
+	p := k.find(pid)
+	if p == nil {
+		return api.Proc{}, api.ErrPid
+	}
+	return p.look(), api.OK
+}
+
+// Where tells where it lies (P10).
+func (k *Kernel) Where(pid int) (api.Place, api.Errno) { return api.Place{}, api.OK }
+
+// Pids tells which processes there are (P10).
+func (k *Kernel) Pids() []int {
+	var pids []int
+	for _, p := range k.procs {
+		pids = append(pids, p.pid)
+	}
+	return pids
+}
+
+// Free tells what is free of core and swap (P10).
+func (k *Kernel) Free() (core, swap []api.Run) { return nil, nil }
+
+// Files tells all files (P10).
+func (k *Kernel) Files() []api.File { return nil }

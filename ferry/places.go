@@ -1,0 +1,34 @@
+package ferry
+
+// corePlace and swapPlace are kinds of their own, so that one is never taken for the other.
+type (
+	corePlace int
+	swapPlace int
+)
+
+// nowhere is the place in the core of a process that is not there.
+const nowhere corePlace = -1
+
+// bringIn brings a process into the core, if it is not there; others go out for it, the least pid first (P9).
+func (k *Kernel) bringIn(p *process) {
+	if p.core != nowhere {
+		return
+	}
+	at, ok := k.core.Take(p.blocks())
+	for i := 0; !ok && i < len(k.procs); i++ {
+		k.takeOut(k.procs[i])
+		at, ok = k.core.Take(p.blocks())
+	}
+	if ok {
+		p.core = at
+	}
+}
+
+// takeOut takes a process out of the core, if it is there.
+func (k *Kernel) takeOut(p *process) {
+	if p.core == nowhere {
+		return
+	}
+	k.core.Give(p.core, p.blocks())
+	p.core = nowhere
+}
