@@ -1,7 +1,14 @@
 // Package blocks: maps of free blocks.
 package blocks
 
-import "slices"
+import (
+	"slices"
+
+	"ferry/api"
+)
+
+// Of tells how many blocks hold so many words.
+func Of(words int) int { return (words + api.Block - 1) / api.Block }
 
 // Number is any kind of whole number; a place of one kind can't be taken for one of another.
 type Number interface {

@@ -8,6 +8,14 @@ import (
 
 type place int
 
+func TestOf(t *testing.T) {
+	for words, want := range map[int]int{0: 0, 1: 1, 7: 1, 8: 1, 9: 2, 64: 8, 121: 16, 128: 16} {
+		if n := Of(words); n != want {
+			t.Errorf("%d blocks of %d words, want %d", n, words, want)
+		}
+	}
+}
+
 // full gives a map of n blocks, each of which has been taken.
 func full(t *testing.T, n int) Map[place] {
 	t.Helper()

@@ -48,6 +48,9 @@ func (s *State) Step() (Outcome, Word) {
 	return Done, 0
 }
 
+// stepBack undoes the step to a call, which is made anew when the process goes on.
+func (s *State) stepBack() { s.P -= 2 }
+
 // touch does an operation that speaks of one word of the image.
 func (s *State) touch(op, n Word) Outcome {
 	one, ok := s.Words(s.address(op, n), 1)

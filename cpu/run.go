@@ -2,9 +2,10 @@ package cpu
 
 import "sync"
 
-// Answer is what a process is told of a call: its result, and what went wrong (0: nothing).
+// Answer is what comes of a call: its result, and what went wrong (0: nothing). If Blocked is not nil, the call did not come to its end, and Blocked tells whether that would be so again.
 type Answer struct {
 	Result, Wrong Word
+	Blocked       func() bool
 }
 
 // Run is a process that goes on in a goroutine. The State is the goroutine's own, but between a call and its answer, and after the end.
@@ -38,7 +39,7 @@ func (r *Run) Calls() <-chan Word { return r.calls }
 // Ends brings one outcome, when the process does not go on any more: Done (its steps are spent) or Bad.
 func (r *Run) Ends() <-chan Outcome { return r.ends }
 
-// Answer answers the call that came last.
+// Answer answers the call that came last. A process that is Blocked does not go on: its registers are as they were ahead of the call, and there is no more to wait for.
 func (r *Run) Answer(a Answer) { r.answers <- a }
 
 // Stop tells the goroutine to end, wherever it is, and waits until it has.
@@ -61,7 +62,7 @@ func (r *Run) goOn(s *State, steps int) {
 	r.end(Done)
 }
 
-// call makes a call; false: there will be no answer, as the goroutine was told to end.
+// call makes a call; false: it did not come to its end, as the process is Blocked or the goroutine was told to end.
 func (r *Run) call(s *State, call Word) bool {
 	select {
 	case r.calls <- call:
@@ -70,6 +71,10 @@ func (r *Run) call(s *State, call Word) bool {
 	}
 	select {
 	case a := <-r.answers:
+		if a.Blocked != nil {
+			s.stepBack()
+			return false
+		}
 		s.A, s.B = a.Result, a.Wrong
 		return true
 	case <-r.quit:

@@ -73,6 +73,29 @@ func TestRunTakesAnswers(t *testing.T) {
 	}
 }
 
+// TestRunIsBlocked: the registers are as they were ahead of the call, and the process does not go on.
+func TestRunIsBlocked(t *testing.T) {
+	s := with(3, 4, 2, []Word{0, 0, api.Trap, 6, api.Set, 9})
+	r := Start(&s, 3)
+	if call := <-r.Calls(); call != 6 || s.P != 4 {
+		t.Errorf("the call: %d, %v", call, s)
+	}
+	r.Answer(Answer{Blocked: func() bool { return true }})
+	r.Stop()
+	if s.A != 3 || s.B != 4 || s.P != 2 {
+		t.Errorf("P4: Blocked: %v", s)
+	}
+	r = Start(&s, 1)
+	if call := <-r.Calls(); call != 6 {
+		t.Errorf("P4: it is not done anew: %d", call)
+	}
+	r.Answer(Answer{Result: 1})
+	r.Stop()
+	if s.A != 1 || s.B != 0 || s.P != 4 {
+		t.Errorf("P4: done anew: %v", s)
+	}
+}
+
 // TestRunStops: wherever the goroutine is when it is told to end, it ends.
 func TestRunStops(t *testing.T) {
 	before := runtime.NumGoroutine()
@@ -89,6 +112,22 @@ func TestRunStops(t *testing.T) {
 		Start(&spent, 1000).Stop()
 	}
 	settled(t, before)
+}
+
+// TestStopWithoutAnAnswer: a process that waits for one does nothing more.
+func TestStopWithoutAnAnswer(t *testing.T) {
+	s := with(3, 4, 0, []Word{api.Trap, 12, api.Set, 9})
+	r := Start(&s, 9)
+	<-r.Calls()
+	r.Stop()
+	if s.A != 3 || s.B != 4 || s.P != 2 {
+		t.Errorf("it went on: %v", s)
+	}
+	s = with(3, 4, 0, []Word{api.Trap, 12, api.Set, 9})
+	Start(&s, 9).Stop()
+	if s.A != 3 || s.B != 4 || s.P != 2 {
+		t.Errorf("it went on, though nobody took its call: %v", s)
+	}
 }
 
 // TestStopWaits: a goroutine that is in the midst of its steps has ended when Stop comes back.

@@ -2,6 +2,7 @@ package ferry
 
 import (
 	"ferry/api"
+	"ferry/blocks"
 	"ferry/cpu"
 )
 
@@ -14,7 +15,7 @@ func mayBe(c api.Config) bool {
 	if n < 1 || n > api.MaxImage*api.Block || !areWords(c.Program) {
 		return false
 	}
-	return blocksOf(n) <= c.Swap && mayBeFiles(c.Files)
+	return blocks.Of(n) <= c.Swap && mayBeFiles(c.Files)
 }
 
 func mayBeFiles(files [][]int) bool {
@@ -26,7 +27,7 @@ func mayBeFiles(files [][]int) bool {
 		if len(f) > api.MaxFile || !areWords(f) {
 			return false
 		}
-		taken += blocksOf(len(f))
+		taken += blocks.Of(len(f))
 	}
 	return taken <= api.Disk
 }
@@ -40,12 +41,8 @@ func areWords(list []int) bool {
 	return true
 }
 
-// blocksOf tells how many blocks hold so many words.
-func blocksOf(words int) int { return (words + api.Block - 1) / api.Block }
-
-// toWords gives new memory of a size with the words of a list, and 0 behind them.
-func toWords(list []int, size int) []cpu.Word {
-	words := make([]cpu.Word, size)
+func toWords(list []int) []cpu.Word {
+	words := make([]cpu.Word, len(list))
 	for i, n := range list {
 		words[i] = cpu.Word(n)
 	}

@@ -311,6 +311,100 @@ func TestFirstExample(t *testing.T) {
 	gone(t, k)
 }
 
+func TestSecondExample(t *testing.T) {
+	program := append([]int{api.Trap, api.Fork}, make([]int, 14)...)
+	for swap, want := range map[int]api.Event{3: {Pid: 1, Call: api.Fork, Wrong: api.NoRoom}, 4: {Pid: 1, Call: api.Fork, Result: 2}} {
+		k, _ := ferry.New(api.Config{Core: 16, Swap: swap, Program: program})
+		if l, e := k.Pick(1, 1); e != api.OK || !slices.Equal(l, []api.Event{want}) {
+			t.Errorf("P6: Fork on a swap of %d: %v, %d; want %v", swap, l, e, want)
+		}
+		if l := k.Pids(); len(l) != swap-2 {
+			t.Errorf("P6: a swap of %d: Pids = %v", swap, l)
+		}
+	}
+}
+
+// TestThirdExample: a reader is Blocked, as the writing end is its own; after a Write by its child it is Ready.
+func TestThirdExample(t *testing.T) {
+	k := machine(t,
+		api.Set, 20, api.Trap, api.MkPipe, api.Trap, api.Fork, api.Zero, 14,
+		api.Set, 21, api.Trap, api.Read, api.Jump, 12, // the parent
+		api.Set, 24, api.Trap, api.Write, api.Jump, 18, // the child
+		30, 0, 28, 4, 1, 20, 2)
+	state := func(want api.State) {
+		t.Helper()
+		if x, e := k.Look(1); e != api.OK || x.State != want {
+			t.Errorf("P8: the reader: %v, %d; want the state %d", x, e, want)
+		}
+	}
+	pick := func(pid, steps int, want ...api.Event) {
+		t.Helper()
+		if l, e := k.Pick(pid, steps); e != api.OK || !slices.Equal(l, want) {
+			t.Errorf("P6: Pick(%d, %d) = %v, %d; want %v", pid, steps, l, e, want)
+		}
+	}
+	pick(1, 5, api.Event{Pid: 1, Call: api.MkPipe}, api.Event{Pid: 1, Call: api.Fork, Result: 2})
+	state(api.Ready)
+	pick(1, 1000)
+	state(api.Blocked)
+	for steps, want := range map[int]api.Errno{0: api.ErrSteps, 1: api.ErrState, 1000: api.ErrState, 1001: api.ErrSteps} {
+		if l, e := k.Pick(1, steps); len(l) != 0 || e != want {
+			t.Errorf("P4: Pick of one that is Blocked, %d steps: %v, %d", steps, l, e)
+		}
+	}
+	pick(2, 3, api.Event{Pid: 2, Call: api.Write, Result: 2})
+	state(api.Ready)
+	pick(1, 1, api.Event{Pid: 1, Call: api.Read, Result: 2})
+	if x, _ := k.Look(1); !slices.Equal(x.Image[27:], []int{0, 30, 0, 0, 1}) || x.A != 2 || x.P != 12 {
+		t.Errorf("P6: behind Read: %v", x)
+	}
+}
+
+// TestAllPids: 60000 processes come, one after another, and no more.
+func TestAllPids(t *testing.T) {
+	k := machine(t, api.Trap, api.Fork, api.Zero, 10, api.Set, 14, api.Trap, api.Wait, api.Jump, 0, api.Set, 14, api.Trap, api.Exit, 15)
+	for pid := 2; pid <= api.MaxPids; pid++ {
+		if l, e := k.Pick(1, 4); e != api.OK || !slices.Equal(l, []api.Event{{Pid: 1, Call: api.Fork, Result: pid}}) {
+			t.Fatalf("P6: the process %d: %v, %d", pid, l, e)
+		}
+		k.Pick(pid, 3)
+		if l, e := k.Pick(1, 2); e != api.OK || !slices.Equal(l, []api.Event{{Pid: 1, Call: api.Wait, Result: pid}}) {
+			t.Fatalf("P6: Wait for %d: %v, %d", pid, l, e)
+		}
+	}
+	if l, e := k.Pick(1, 1); e != api.OK || !slices.Equal(l, []api.Event{{Pid: 1, Call: api.Fork, Wrong: api.NoProc}}) {
+		t.Errorf("P6: one more: %v, %d", l, e)
+	}
+}
+
+// TestFilesAreNew: what Files gives out is new memory, also a list within the list.
+func TestFilesAreNew(t *testing.T) {
+	handed := [][]int{{1, 2}, {}, {65535}}
+	k, _ := ferry.New(api.Config{Core: 16, Swap: 1, Program: []int{1}, Files: handed})
+	handed[0][1], handed[1] = 9, []int{9}
+	for range 2 {
+		l := k.Files()
+		if len(l) != 3 || len(l[1].Words) != 0 {
+			t.Fatalf("P10: Files = %v", l)
+		}
+		l[1].Words = nil
+		if want := []api.File{{Name: 0, Words: []int{1, 2}}, {Name: 1}, {Name: 2, Words: []int{65535}}}; !reflect.DeepEqual(l, want) {
+			t.Errorf("P10: Files = %v, want %v", l, want)
+		}
+		for _, f := range l {
+			for i := range f.Words[:cap(f.Words)] {
+				f.Words[:cap(f.Words)][i] = 4242
+			}
+		}
+		for i := range l[:cap(l)] {
+			l[:cap(l)][i] = api.File{Name: 4242}
+		}
+	}
+	if l := machine(t, 1).Files(); len(l) != 0 {
+		t.Errorf("P10: no files: %v", l)
+	}
+}
+
 func TestLookRefuses(t *testing.T) {
 	k := machine(t, 1, 2)
 	for _, pid := range []int{0, 2, -1, 65537, math.MaxInt, math.MinInt} {
@@ -374,7 +468,7 @@ func TestPiecesAreTheWhole(t *testing.T) {
 
 func TestGoroutinesHaveEnded(t *testing.T) {
 	before := runtime.NumGoroutine()
-	for _, program := range [][]int{{api.Jump, 0}, {api.Stop, 0}, {api.Trap, api.Exit}, {api.Trap, api.Pid, api.Jump, 0}, {api.Trap, 99, api.Jump, 0}} {
+	for _, program := range [][]int{{api.Jump, 0}, {api.Stop, 0}, {api.Trap, api.Exit}, {api.Trap, api.Pid, api.Jump, 0}, {api.Trap, 99, api.Jump, 0}, {api.Set, 8, api.Trap, api.MkPipe, api.Set, 10, api.Trap, api.Read, 14, 0, 0, 13, 1}} {
 		for range 100 {
 			machine(t, program...).Pick(1, 7)
 		}

@@ -2,17 +2,22 @@
 package ferry
 
 import (
+	"slices"
+
 	"ferry/api"
 	"ferry/blocks"
 	"ferry/cpu"
+	"ferry/files"
 )
 
 // Kernel is a machine with its processes.
 type Kernel struct {
 	core  blocks.Map[corePlace]
 	swap  blocks.Map[swapPlace]
-	procs []*process   // in the order of their pids
-	files [][]cpu.Word // by their names
+	procs []*process // in the order of their pids
+	came  int        // how many processes have ever come: the last one's pid
+	disk  files.Disk
+	open  files.Table
 }
 
 // New starts a machine (P3).
@@ -21,12 +26,13 @@ func New(c api.Config) (*Kernel, api.Errno) {
 		return nil, api.ErrConfig
 	}
 	k := &Kernel{core: blocks.New[corePlace](c.Core), swap: blocks.New[swapPlace](c.Swap)}
-	for _, f := range c.Files {
-		k.files = append(k.files, toWords(f, len(f)))
+	for name, f := range c.Files {
+		k.disk.Make(name, toWords(f))
 	}
-	first := newProcess(firstPid, 0, toWords(c.Program, blocksOf(len(c.Program))*api.Block))
-	first.swap, _ = k.swap.Take(first.blocks())
-	k.procs = append(k.procs, first)
+	k.admit(&process{
+		cpu: cpu.State{Image: imageOf(toWords(c.Program), blocks.Of(len(c.Program)))},
+		fds: slices.Repeat([]int{noFile}, api.MaxFds),
+	})
 	return k, api.OK
 }
 
@@ -39,7 +45,7 @@ func (k *Kernel) Pick(pid, steps int) ([]api.Event, api.Errno) {
 	if steps < 1 || steps > api.MaxSteps {
 		return nil, api.ErrSteps
 	}
-	if p.state != api.Ready {
+	if p.state() != api.Ready {
 		return nil, api.ErrState
 	}
 	return k.goOn(p, steps), api.OK
@@ -76,4 +82,4 @@ func (k *Kernel) Pids() []int {
 func (k *Kernel) Free() (core, swap []api.Run) { return nil, nil }
 
 // Files tells all files (P10).
-func (k *Kernel) Files() []api.File { return nil }
+func (k *Kernel) Files() []api.File { return k.disk.List() }

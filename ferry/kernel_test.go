@@ -23,14 +23,11 @@ func family(t *testing.T) *Kernel {
 // add lays a process more into a kernel: one of so many blocks that exits at once, with its pid as the status.
 func add(t *testing.T, k *Kernel, pid, parent, blocks int) *process {
 	t.Helper()
-	p := newProcess(pid, parent, make([]cpu.Word, blocks*api.Block))
-	copy(p.cpu.Image, []cpu.Word{api.Set, 5, api.Trap, api.Exit, 0, cpu.Word(pid)})
-	at, ok := k.swap.Take(blocks)
-	if !ok {
-		t.Fatalf("no room on the swap for %d blocks", blocks)
+	exits := []cpu.Word{api.Set, 5, api.Trap, api.Exit, 0, cpu.Word(pid)}
+	p := &process{parent: parent, cpu: cpu.State{Image: imageOf(exits, blocks)}, fds: slices.Repeat([]int{noFile}, api.MaxFds)}
+	if !k.admit(p) || p.pid != pid {
+		t.Fatalf("P6: %d blocks on the swap: the process is %d, want %d", blocks, p.pid, pid)
 	}
-	p.swap = at
-	k.procs = append(k.procs, p)
 	return p
 }
 
@@ -60,18 +57,6 @@ func TestNewTakesRoom(t *testing.T) {
 	}
 	if l := k.core.Runs(); !slices.Equal(l, []blocks.Run[corePlace]{{From: 0, Blocks: 17}}) {
 		t.Errorf("P3: free of the core: %v", l)
-	}
-	if !reflect.DeepEqual(k.files, [][]cpu.Word{{1, 2}, {}, {65535}}) {
-		t.Errorf("P3: the files: %v", k.files)
-	}
-}
-
-func TestNewKeepsNoFile(t *testing.T) {
-	files := [][]int{{1, 2}}
-	k, _ := New(api.Config{Core: 16, Swap: 1, Program: []int{1}, Files: files})
-	files[0][1] = 9
-	if !reflect.DeepEqual(k.files, [][]cpu.Word{{1, 2}}) {
-		t.Errorf("P2: a file that was handed in was kept: %v", k.files)
 	}
 }
 

@@ -1,6 +1,8 @@
 package ferry
 
 import (
+	"slices"
+
 	"ferry/api"
 	"ferry/cpu"
 )
@@ -9,54 +11,89 @@ import (
 func (k *Kernel) goOn(p *process, steps int) []api.Event {
 	var told []api.Event
 	k.bringIn(p)
+	p.blocked = nil
 	run := cpu.Start(&p.cpu, steps)
 	defer run.Stop()
 	for {
 		select {
 		case call := <-run.Calls():
-			event := k.serve(p, call)
-			told = append(told, event)
-			if p.state != api.Ready {
+			a := k.serve(p, call)
+			if a.Blocked != nil {
+				p.blocked = a.Blocked
+				run.Answer(a)
 				return told
 			}
-			run.Answer(cpu.Answer{Result: cpu.Word(event.Result), Wrong: cpu.Word(event.Wrong)})
+			told = append(told, event(p, call, a))
+			if p.ended {
+				return told
+			}
+			run.Answer(a)
 		case outcome := <-run.Ends():
 			if outcome == cpu.Bad {
-				told = append(told, k.end(p, api.StatusBad))
+				told = append(told, event(p, api.Exit, k.end(p, api.StatusBad)))
 			}
 			return told
 		}
 	}
 }
 
-// serve does a call of a process, which waits meanwhile, and gives the event that tells of it (P6).
-func (k *Kernel) serve(p *process, call cpu.Word) api.Event {
+func event(p *process, call cpu.Word, a cpu.Answer) api.Event {
+	return api.Event{Pid: p.pid, Call: int(call), Result: int(a.Result), Wrong: int(a.Wrong)}
+}
+
+// serve does a call of a process, which waits meanwhile (P6).
+func (k *Kernel) serve(p *process, call cpu.Word) cpu.Answer {
 	args, ok := p.cpu.Words(p.cpu.A, argsOf(call))
 	if !ok {
-		return wrong(p, call, api.Fault)
+		return wrong(api.Fault)
 	}
+	args = slices.Clone(args) // the call may write over them, or give the image away
 	switch call {
 	case api.Exit:
 		return k.end(p, args[0])
+	case api.Fork:
+		return k.fork(p)
+	case api.Wait:
+		return k.wait(p, args[0])
+	case api.Grow:
+		return k.grow(p, args[0])
+	case api.MkPipe:
+		return k.mkPipe(p, args[0])
+	case api.Read:
+		return k.read(p, args[0], args[1], args[2])
+	case api.Write:
+		return k.write(p, args[0], args[1], args[2])
+	case api.Close:
+		return k.close(p, args[0])
+	case api.Dup:
+		return k.dup(p, args[0])
+	case api.Open:
+		return k.openFile(p, args[0], args[1])
+	case api.Exec:
+		return k.exec(p, args[0])
 	case api.Pid:
-		return result(p, call, p.pid)
+		return result(p.pid)
+	case api.Unlink:
+		return k.unlink(args[0])
+	case api.Seek:
+		return k.seek(p, args[0], args[1])
 	}
-	return wrong(p, call, api.BadCall)
+	return wrong(api.BadCall)
 }
 
 // argsOf tells how many arguments a call has.
 func argsOf(call cpu.Word) int {
 	switch call {
-	case api.Exit:
+	case api.Exit, api.Wait, api.Grow, api.MkPipe, api.Close, api.Dup, api.Exec, api.Unlink:
 		return 1
+	case api.Open, api.Seek:
+		return 2
+	case api.Read, api.Write:
+		return 3
 	}
 	return 0
 }
 
-func result(p *process, call cpu.Word, n int) api.Event {
-	return api.Event{Pid: p.pid, Call: int(call), Result: n}
-}
+func result(n int) cpu.Answer { return cpu.Answer{Result: cpu.Word(n)} }
 
-func wrong(p *process, call cpu.Word, what int) api.Event {
-	return api.Event{Pid: p.pid, Call: int(call), Wrong: what}
-}
+func wrong(what cpu.Word) cpu.Answer { return cpu.Answer{Wrong: what} }

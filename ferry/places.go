@@ -1,5 +1,10 @@
 package ferry
 
+import (
+	"ferry/blocks"
+	"ferry/cpu"
+)
+
 // corePlace and swapPlace are kinds of their own, so that one is never taken for the other.
 type (
 	corePlace int
@@ -31,4 +36,18 @@ func (k *Kernel) takeOut(p *process) {
 	}
 	k.core.Give(p.core, p.blocks())
 	p.core = nowhere
+}
+
+// become gives a process that goes on another image (P9); false: there is no room on the swap for it while it has its own.
+func (k *Kernel) become(p *process, image []cpu.Word) bool {
+	at, ok := k.swap.Take(blocks.Of(len(image)))
+	if !ok {
+		return false
+	}
+	// It still goes on: whatever comes of it, it must be in the core again.
+	defer k.bringIn(p)
+	k.takeOut(p)
+	k.swap.Give(p.swap, p.blocks())
+	p.swap, p.cpu.Image = at, image
+	return true
 }
