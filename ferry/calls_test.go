@@ -5,13 +5,7 @@ import (
 	"testing"
 
 	"ferry/api"
-	"ferry/blocks"
 	"ferry/cpu"
-)
-
-type (
-	swapRuns = []blocks.Run[swapPlace]
-	coreRuns = []blocks.Run[corePlace]
 )
 
 // TestArguments: they stand in the image, to the last one, or it is a Fault.
@@ -87,8 +81,8 @@ func TestForkGivesTheSame(t *testing.T) {
 		t.Errorf("P6: the child %v, the parent %v", y, x)
 	}
 	r.lies(1, 0, 0)
-	r.lies(2, 2, nowhere)
-	r.free(swapRuns{{From: 4, Blocks: 36}}, coreRuns{{From: 2, Blocks: 14}})
+	r.lies(2, 2, -1)
+	r.free(runs{{From: 2, Blocks: 14}}, runs{{From: 4, Blocks: 36}})
 	r.call(ok(3), 2, api.Fork)
 	if z, _ := r.k.Look(3); z.Parent != 2 {
 		t.Errorf("P6: the child's child: %v", z)
@@ -141,14 +135,14 @@ func TestForkRefuses(t *testing.T) {
 	r.call(ok(5), 1, api.Wait, dataAt-1)
 	r.call(ok(13), 2, api.Fork) // no pid comes twice
 	r.pids(1, 2, 3, 4, 6, 7, 8, 9, 10, 11, 12, 13)
-	r.lies(13, 4, nowhere)
+	r.lies(13, 4, -1)
 
 	r = start(t, 16, 5, 2)
 	r.call(ok(2), 1, api.Fork)
 	r.call(bad(api.NoRoom), 1, api.Fork)
 	r.call(bad(api.NoRoom), 2, api.Fork)
 	r.pids(1, 2)
-	r.free(swapRuns{{From: 4, Blocks: 1}}, coreRuns{{From: 4, Blocks: 12}})
+	r.free(runs{{From: 4, Blocks: 12}}, runs{{From: 4, Blocks: 1}})
 	r.exits(2, 0)
 	r.call(ok(3), 1, api.Fork)
 }
@@ -164,12 +158,12 @@ func TestForkNeedsRoomInOneRun(t *testing.T) {
 	r.call(ok(5), 3, api.Fork)
 	r.exits(3, 0)
 	r.lies(1, 0, 0)
-	r.lies(4, 4, nowhere)
-	r.lies(5, 2, nowhere)
+	r.lies(4, 4, -1)
+	r.lies(5, 2, -1)
 	r.call(bad(api.NoRoom), 1, api.Fork)
-	r.free(swapRuns{{From: 3, Blocks: 1}, {From: 6, Blocks: 1}}, coreRuns{{From: 2, Blocks: 14}})
+	r.free(runs{{From: 2, Blocks: 14}}, runs{{From: 3, Blocks: 1}, {From: 6, Blocks: 1}})
 	r.call(ok(6), 5, api.Fork)
-	r.lies(6, 3, nowhere)
+	r.lies(6, 3, -1)
 }
 
 func TestWait(t *testing.T) {
@@ -254,10 +248,10 @@ func TestGrowRefuses(t *testing.T) {
 		r.call(bad(api.NoRoom), 1, api.Grow, n)
 	}
 	r.lies(1, 0, 0)
-	r.free(swapRuns{{From: 6, Blocks: 10}}, coreRuns{{From: 6, Blocks: 10}})
+	r.free(runs{{From: 6, Blocks: 10}}, runs{{From: 6, Blocks: 10}})
 	r.call(ok(0), 1, api.Grow, 10)
 	r.lies(1, 6, 0)
-	r.free(swapRuns{{From: 0, Blocks: 6}}, coreRuns{{From: 10, Blocks: 6}})
+	r.free(runs{{From: 10, Blocks: 6}}, runs{{From: 0, Blocks: 6}})
 	r.call(bad(api.NoRoom), 1, api.Grow, 10)
 	r.call(ok(0), 1, api.Grow, 6)
 	r.lies(1, 0, 0)
@@ -293,17 +287,17 @@ func TestGrowInTheCore(t *testing.T) {
 		r.call(ok(pid), pid, api.Pid)
 	}
 	for pid := 1; pid <= 4; pid++ {
-		r.lies(pid, swapPlace(4*pid-4), corePlace(4*pid-4))
+		r.lies(pid, 4*pid-4, 4*pid-4)
 	}
 	r.call(ok(0), 3, api.Grow, 3) // its own old room is the first that fits
 	r.lies(3, 20, 8)
-	r.free(swapRuns{{From: 8, Blocks: 4}, {From: 23, Blocks: 37}}, coreRuns{{From: 11, Blocks: 1}})
+	r.free(runs{{From: 11, Blocks: 1}}, runs{{From: 8, Blocks: 4}, {From: 23, Blocks: 37}})
 	r.call(ok(0), 3, api.Grow, 5) // 1 alone is not enough, and 4 may stay
-	r.lies(1, 0, nowhere)
-	r.lies(2, 4, nowhere)
+	r.lies(1, 0, -1)
+	r.lies(2, 4, -1)
 	r.lies(3, 23, 0)
 	r.lies(4, 12, 12)
-	r.free(swapRuns{{From: 8, Blocks: 4}, {From: 20, Blocks: 3}, {From: 28, Blocks: 32}}, coreRuns{{From: 5, Blocks: 7}})
+	r.free(runs{{From: 5, Blocks: 7}}, runs{{From: 8, Blocks: 4}, {From: 20, Blocks: 3}, {From: 28, Blocks: 32}})
 }
 
 func TestExec(t *testing.T) {
@@ -348,10 +342,10 @@ func TestExecTakesRoom(t *testing.T) {
 	r.lies(1, 0, 0)
 	r.call(ok(0), 1, api.Exec, 2)
 	r.lies(1, 2, 0)
-	r.free(swapRuns{{From: 0, Blocks: 2}}, coreRuns{{From: 7, Blocks: 9}})
+	r.free(runs{{From: 7, Blocks: 9}}, runs{{From: 0, Blocks: 2}})
 	r.call(ok(0), 1, api.Exec, 3)
 	r.lies(1, 0, 0)
-	r.free(swapRuns{{From: 1, Blocks: 8}}, coreRuns{{From: 1, Blocks: 15}})
+	r.free(runs{{From: 1, Blocks: 15}}, runs{{From: 1, Blocks: 8}})
 }
 
 // TestExecOfALostName: a file that has no name can't be found, though it is open.
@@ -381,7 +375,7 @@ func TestEndCloses(t *testing.T) {
 	if n := r.k.open.Room(); n != 20 {
 		t.Errorf("P7: room for %d open files", n)
 	}
-	r.free(swapRuns{{From: 0, Blocks: 40}}, coreRuns{{From: 0, Blocks: 16}})
+	r.free(runs{{From: 0, Blocks: 16}}, runs{{From: 0, Blocks: 40}})
 }
 
 // TestBadEndCloses: so it is with one that did what it may not.

@@ -321,6 +321,10 @@ func TestSecondExample(t *testing.T) {
 		if l := k.Pids(); len(l) != swap-2 {
 			t.Errorf("P6: a swap of %d: Pids = %v", swap, l)
 		}
+		w, e := k.Where(2)
+		if swap == 3 && e != api.ErrPid || swap == 4 && (e != api.OK || w != api.Place{Swap: 2, Core: -1, Blocks: 2}) {
+			t.Errorf("P10: a swap of %d: the child lies at %v, %d", swap, w, e)
+		}
 	}
 }
 

@@ -52,10 +52,24 @@ func (k *Kernel) Pick(pid, steps int) ([]api.Event, api.Errno) {
 }
 
 // Out takes a process out of the core (P9).
-func (k *Kernel) Out(pid int) api.Errno { return api.OK }
+func (k *Kernel) Out(pid int) api.Errno {
+	p, e := k.lying(pid)
+	if e != api.OK {
+		return e
+	}
+	k.takeOut(p)
+	return api.OK
+}
 
 // In brings a process into the core (P9).
-func (k *Kernel) In(pid int) api.Errno { return api.OK }
+func (k *Kernel) In(pid int) api.Errno {
+	p, e := k.lying(pid)
+	if e != api.OK {
+		return e
+	}
+	k.bringIn(p)
+	return api.OK
+}
 
 // Look tells how a process stands (P10).
 func (k *Kernel) Look(pid int) (api.Proc, api.Errno) {
@@ -67,7 +81,13 @@ func (k *Kernel) Look(pid int) (api.Proc, api.Errno) {
 }
 
 // Where tells where it lies (P10).
-func (k *Kernel) Where(pid int) (api.Place, api.Errno) { return api.Place{}, api.OK }
+func (k *Kernel) Where(pid int) (api.Place, api.Errno) {
+	p, e := k.lying(pid)
+	if e != api.OK {
+		return api.Place{}, e
+	}
+	return api.Place{Swap: int(p.swap), Core: int(p.core), Blocks: p.blocks()}, api.OK
+}
 
 // Pids tells which processes there are (P10).
 func (k *Kernel) Pids() []int {
@@ -79,7 +99,9 @@ func (k *Kernel) Pids() []int {
 }
 
 // Free tells what is free of core and swap (P10).
-func (k *Kernel) Free() (core, swap []api.Run) { return nil, nil }
+func (k *Kernel) Free() (core, swap []api.Run) {
+	return toRuns(k.core.Runs()), toRuns(k.swap.Runs())
+}
 
 // Files tells all files (P10).
 func (k *Kernel) Files() []api.File { return k.disk.List() }

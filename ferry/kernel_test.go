@@ -6,7 +6,6 @@ import (
 	"testing"
 
 	"ferry/api"
-	"ferry/blocks"
 	"ferry/cpu"
 )
 
@@ -49,30 +48,23 @@ func exit(t *testing.T, k *Kernel, pid int) {
 
 func TestNewTakesRoom(t *testing.T) {
 	k, _ := New(api.Config{Core: 17, Swap: 5, Program: make([]int, 9), Files: [][]int{{1, 2}, {}, {65535}}})
-	if p := k.find(1); p.swap != 0 || p.core != nowhere {
-		t.Errorf("P3: it lies at %d on the swap, at %d in the core", p.swap, p.core)
-	}
-	if l := k.swap.Runs(); !slices.Equal(l, []blocks.Run[swapPlace]{{From: 2, Blocks: 3}}) {
-		t.Errorf("P3: free of the swap: %v", l)
-	}
-	if l := k.core.Runs(); !slices.Equal(l, []blocks.Run[corePlace]{{From: 0, Blocks: 17}}) {
-		t.Errorf("P3: free of the core: %v", l)
-	}
+	r := rig{t, k}
+	r.lies(1, 0, -1)
+	r.free(runs{{From: 0, Blocks: 17}}, runs{{From: 2, Blocks: 3}})
 }
 
 func TestPickBringsIn(t *testing.T) {
 	k := family(t)
 	for range 2 {
 		k.Pick(1, 1)
-		if p := k.find(1); p.core != 0 || !slices.Equal(k.core.Runs(), []blocks.Run[corePlace]{{From: 1, Blocks: 15}}) {
-			t.Errorf("P4: it lies at %d in the core, free: %v", p.core, k.core.Runs())
-		}
+		r := rig{t, k}
+		r.lies(1, 0, 0)
+		r.free(runs{{From: 1, Blocks: 15}}, runs{{From: 1, Blocks: 39}})
 	}
 	for _, steps := range []int{0, 1001} {
 		k := family(t)
-		if k.Pick(1, steps); k.find(1).core != nowhere {
-			t.Errorf("P1: Pick(1, %d) brought it in", steps)
-		}
+		k.Pick(1, steps)
+		rig{t, k}.lies(1, 0, -1)
 	}
 }
 
@@ -80,17 +72,14 @@ func TestEndGivesRoomBack(t *testing.T) {
 	for why, program := range map[string][]int{"Exit": {api.Trap, api.Exit}, "Stop": {api.Stop}} {
 		k, _ := New(api.Config{Core: 16, Swap: 5, Program: program})
 		k.Pick(1, 9)
-		if c, s := k.core.Runs(), k.swap.Runs(); !slices.Equal(c, []blocks.Run[corePlace]{{From: 0, Blocks: 16}}) || !slices.Equal(s, []blocks.Run[swapPlace]{{From: 0, Blocks: 5}}) {
-			t.Errorf("P7: %s: free: %v, %v", why, c, s)
-		}
+		t.Log(why)
+		rig{t, k}.free(runs{{From: 0, Blocks: 16}}, runs{{From: 0, Blocks: 5}})
 	}
 	k := family(t)
 	add(t, k, 2, 1, 3)
 	k.Pick(1, 1)
 	exit(t, k, 2)
-	if c, s := k.core.Runs(), k.swap.Runs(); !slices.Equal(c, []blocks.Run[corePlace]{{From: 1, Blocks: 15}}) || !slices.Equal(s, []blocks.Run[swapPlace]{{From: 1, Blocks: 39}}) {
-		t.Errorf("P7: a child: free: %v, %v", c, s)
-	}
+	rig{t, k}.free(runs{{From: 1, Blocks: 15}}, runs{{From: 1, Blocks: 39}})
 }
 
 func TestZombie(t *testing.T) {
@@ -154,38 +143,5 @@ func TestTheFirstEnds(t *testing.T) {
 	if l := k.Pids(); len(l) != 0 {
 		t.Errorf("P7: Pids at last: %v", l)
 	}
-	if c, s := k.core.Runs(), k.swap.Runs(); !slices.Equal(c, []blocks.Run[corePlace]{{From: 0, Blocks: 16}}) || !slices.Equal(s, []blocks.Run[swapPlace]{{From: 0, Blocks: 40}}) {
-		t.Errorf("P7: free at last: %v, %v", c, s)
-	}
-}
-
-// TestBringInTakesOthersOut: the least pid first, and no more than must be.
-func TestBringInTakesOthersOut(t *testing.T) {
-	k := family(t)
-	for _, c := range []struct{ pid, blocks int }{{2, 5}, {3, 4}, {4, 6}, {5, 7}, {6, 16}} {
-		add(t, k, c.pid, 1, c.blocks)
-	}
-	for _, c := range []struct {
-		pid   int
-		cores []corePlace
-		free  []blocks.Run[corePlace]
-	}{
-		{4, []corePlace{-1, -1, -1, 0, -1, -1}, []blocks.Run[corePlace]{{From: 6, Blocks: 10}}},
-		{2, []corePlace{-1, 6, -1, 0, -1, -1}, []blocks.Run[corePlace]{{From: 11, Blocks: 5}}},
-		{3, []corePlace{-1, 6, 11, 0, -1, -1}, []blocks.Run[corePlace]{{From: 15, Blocks: 1}}},
-		{3, []corePlace{-1, 6, 11, 0, -1, -1}, []blocks.Run[corePlace]{{From: 15, Blocks: 1}}},
-		{1, []corePlace{15, 6, 11, 0, -1, -1}, nil},
-		{5, []corePlace{-1, -1, -1, 0, 6, -1}, []blocks.Run[corePlace]{{From: 13, Blocks: 3}}},
-		{6, []corePlace{-1, -1, -1, -1, -1, 0}, nil},
-		{1, []corePlace{0, -1, -1, -1, -1, -1}, []blocks.Run[corePlace]{{From: 1, Blocks: 15}}},
-	} {
-		k.bringIn(k.find(c.pid))
-		var cores []corePlace
-		for _, p := range k.procs {
-			cores = append(cores, p.core)
-		}
-		if !slices.Equal(cores, c.cores) || !slices.Equal(k.core.Runs(), c.free) {
-			t.Errorf("P9: bring in %d: %v, free %v; want %v, %v", c.pid, cores, k.core.Runs(), c.cores, c.free)
-		}
-	}
+	rig{t, k}.free(runs{{From: 0, Blocks: 16}}, runs{{From: 0, Blocks: 40}})
 }

@@ -1,6 +1,7 @@
 package ferry
 
 import (
+	"ferry/api"
 	"ferry/blocks"
 	"ferry/cpu"
 )
@@ -13,6 +14,18 @@ type (
 
 // nowhere is the place in the core of a process that is not there.
 const nowhere corePlace = -1
+
+// lying gives the process of a pid, if there is one that lies somewhere: a Zombie has no image that could.
+func (k *Kernel) lying(pid int) (*process, api.Errno) {
+	p := k.find(pid)
+	if p == nil {
+		return nil, api.ErrPid
+	}
+	if p.ended {
+		return nil, api.ErrState
+	}
+	return p, api.OK
+}
 
 // bringIn brings a process into the core, if it is not there; others go out for it, the least pid first (P9).
 func (k *Kernel) bringIn(p *process) {
@@ -50,4 +63,13 @@ func (k *Kernel) become(p *process, image []cpu.Word) bool {
 	k.swap.Give(p.swap, p.blocks())
 	p.swap, p.cpu.Image = at, image
 	return true
+}
+
+// toRuns gives the runs of a map in new memory, as whoever asks from outside knows no kinds of places.
+func toRuns[P blocks.Number](runs []blocks.Run[P]) []api.Run {
+	var told []api.Run
+	for _, r := range runs {
+		told = append(told, api.Run{From: int(r.From), Blocks: r.Blocks})
+	}
+	return told
 }

@@ -6,7 +6,6 @@ import (
 	"testing"
 
 	"ferry/api"
-	"ferry/blocks"
 	"ferry/cpu"
 )
 
@@ -149,18 +148,30 @@ func (r rig) files(want ...[3]int) {
 	}
 }
 
-// lies asks where a process lies.
-func (r rig) lies(pid int, swap swapPlace, core corePlace) {
+// lies asks where a process lies; core -1: it is not there.
+func (r rig) lies(pid, swap, core int) {
 	r.Helper()
-	if p := r.k.find(pid); p.swap != swap || p.core != core {
-		r.Errorf("P9: process %d lies at %d on the swap, at %d in the core; want %d, %d", pid, p.swap, p.core, swap, core)
+	x, _ := r.k.Look(pid)
+	want := api.Place{Swap: swap, Core: core, Blocks: len(x.Image) / api.Block}
+	if w, e := r.k.Where(pid); w != want || e != api.OK {
+		r.Errorf("P9: process %d lies at %v, %d; want %v", pid, w, e, want)
 	}
 }
 
-// free asks what is free of the swap, and of the core.
-func (r rig) free(swap []blocks.Run[swapPlace], core []blocks.Run[corePlace]) {
+type runs = []api.Run
+
+// free asks what is free of the core, and of the swap.
+func (r rig) free(core, swap runs) {
 	r.Helper()
-	if s, c := r.k.swap.Runs(), r.k.core.Runs(); !slices.Equal(s, swap) || !slices.Equal(c, core) {
-		r.Errorf("P9: free: %v, %v; want %v, %v", s, c, swap, core)
+	if c, s := r.k.Free(); !slices.Equal(c, core) || !slices.Equal(s, swap) {
+		r.Errorf("P10: free: %v, %v; want %v, %v", c, s, core, swap)
+	}
+}
+
+// goes brings a process in or takes it out.
+func (r rig) goes(how func(int) api.Errno, pid int) {
+	r.Helper()
+	if e := how(pid); e != api.OK {
+		r.Errorf("P9: In or Out of process %d: %d", pid, e)
 	}
 }

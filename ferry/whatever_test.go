@@ -62,7 +62,7 @@ func anyMachine(r *rand.Rand) api.Config {
 	return c
 }
 
-// TestWhateverProcessesDo: machines with any programs hold together, and the same comes of a greater core, and of single steps.
+// TestWhateverProcessesDo: machines with any programs hold together while they are brought in and taken out, and the same comes without that, of a greater core, and of single steps.
 func TestWhateverProcessesDo(t *testing.T) {
 	done := map[[2]int]int{} // how often a call came to its end so
 	for seed := range int64(300) {
@@ -76,6 +76,7 @@ func TestWhateverProcessesDo(t *testing.T) {
 		wide.Core = 64
 		other, _ := New(wide)
 		single, _ := New(c)
+		still, _ := New(c)
 		for range 60 {
 			pids := k.Pids()
 			if len(pids) == 0 {
@@ -83,19 +84,25 @@ func TestWhateverProcessesDo(t *testing.T) {
 			}
 			pid, steps := pids[r.Intn(len(pids))], 1+r.Intn(40)
 			before := looks(k)
+			goAbout(k, rand.New(rand.NewSource(r.Int63())), pids)
+			if !reflect.DeepEqual(looks(k), before) {
+				t.Fatalf("P11: seed %d: In and Out changed more than where they lie", seed)
+			}
 			events, e := k.Pick(pid, steps)
 			for _, x := range events {
 				done[[2]int{x.Call, x.Wrong}]++
 			}
 			holds(t, k, c, pid, before)
-			if l, f := other.Pick(pid, steps); f != e || !slices.Equal(l, events) {
-				t.Fatalf("P11: seed %d: a greater core: %v, %d; %v, %d", seed, l, f, events, e)
+			for why, o := range map[string]*Kernel{"a greater core": other, "without In and Out": still} {
+				if l, f := o.Pick(pid, steps); f != e || !slices.Equal(l, events) {
+					t.Fatalf("P11: seed %d: %s: %v, %d; %v, %d", seed, why, l, f, events, e)
+				}
 			}
 			if l := inSteps(single, pid, steps); !slices.Equal(l, events) {
 				t.Fatalf("P4: seed %d: in single steps: %v; %v", seed, l, events)
 			}
-			for why, o := range map[string]*Kernel{"a greater core": other, "single steps": single} {
-				if !reflect.DeepEqual(looks(o), looks(k)) || !reflect.DeepEqual(o.Files(), k.Files()) || !slices.Equal(o.swap.Runs(), k.swap.Runs()) {
+			for why, o := range map[string]*Kernel{"a greater core": other, "single steps": single, "without In and Out": still} {
+				if !reflect.DeepEqual(looks(o), looks(k)) || !reflect.DeepEqual(o.Files(), k.Files()) || !slices.Equal(freeSwap(o), freeSwap(k)) {
 					t.Fatalf("P11: seed %d: %s: it stands otherwise", seed, why)
 				}
 			}
@@ -105,6 +112,23 @@ func TestWhateverProcessesDo(t *testing.T) {
 		}
 	}
 	wants(t, done)
+}
+
+// goAbout brings some processes in and takes some out.
+func goAbout(k *Kernel, r *rand.Rand, pids []int) {
+	for range r.Intn(4) {
+		pid := pids[r.Intn(len(pids))]
+		if r.Intn(2) == 0 {
+			k.In(pid)
+		} else {
+			k.Out(pid)
+		}
+	}
+}
+
+func freeSwap(k *Kernel) runs {
+	_, swap := k.Free()
+	return swap
 }
 
 // wants asks that each call was made, so that the machines above show something.
@@ -169,7 +193,7 @@ func holds(t *testing.T, k *Kernel, c api.Config, picked int, before map[int]api
 			t.Errorf("P11: process %d is %v, was %v", pid, x, was)
 		}
 	}
-	if p := k.find(picked); p != nil && before[picked].State == api.Ready && !p.ended && p.core == nowhere {
+	if w, e := k.Where(picked); before[picked].State == api.Ready && e == api.OK && w.Core == -1 {
 		t.Errorf("P4: process %d went on, and is not in the core", picked)
 	}
 	if len(k.procs) > api.MaxProcs || !slices.IsSorted(k.Pids()) {
@@ -183,16 +207,23 @@ func holds(t *testing.T, k *Kernel, c api.Config, picked int, before map[int]api
 func eachBlockOnce(t *testing.T, k *Kernel, c api.Config) {
 	t.Helper()
 	core, swap := make([]int, c.Core), make([]int, c.Swap)
-	count(core, k.core.Runs())
-	count(swap, k.swap.Runs())
-	for _, p := range k.procs {
-		if n := p.blocks(); !p.ended {
-			count(swap, []blocks.Run[swapPlace]{{From: p.swap, Blocks: n}})
-			if p.core != nowhere {
-				count(core, []blocks.Run[corePlace]{{From: p.core, Blocks: n}})
+	freeCore, freeSwap := k.Free()
+	count(core, freeCore)
+	count(swap, freeSwap)
+	for pid, x := range looks(k) {
+		w, e := k.Where(pid)
+		if x.State == api.Zombie {
+			if e != api.ErrState || w != (api.Place{}) {
+				t.Errorf("P10: a Zombie: Where = %v, %d", w, e)
 			}
-		} else if n != 0 || p.core != nowhere {
-			t.Errorf("P7: a Zombie has %d blocks, at %d in the core", n, p.core)
+			continue
+		}
+		if e != api.OK || w.Blocks*api.Block != len(x.Image) {
+			t.Errorf("P10: Where = %v, %d, of %d words", w, e, len(x.Image))
+		}
+		count(swap, runs{{From: w.Swap, Blocks: w.Blocks}})
+		if w.Core != -1 {
+			count(core, runs{{From: w.Core, Blocks: w.Blocks}})
 		}
 	}
 	if !slices.Equal(core, slices.Repeat([]int{1}, c.Core)) || !slices.Equal(swap, slices.Repeat([]int{1}, c.Swap)) {
@@ -200,10 +231,10 @@ func eachBlockOnce(t *testing.T, k *Kernel, c api.Config) {
 	}
 }
 
-func count[P blocks.Number](times []int, runs []blocks.Run[P]) {
-	for _, r := range runs {
+func count(times []int, l runs) {
+	for _, r := range l {
 		for i := range r.Blocks {
-			times[int(r.From)+i]++
+			times[r.From+i]++
 		}
 	}
 }
